@@ -1,0 +1,1 @@
+"""Packwants: what told wants cost at least, where things are sold in packs."""

@@ -1,0 +1,36 @@
+"""The interface: names, their arguments, and the files that define them."""
+
+import importlib
+import inspect
+import unittest
+
+FUNCTIONS = {
+    "packwants.wants": {
+        "covers": ["content", "want"],
+        "rest": ["want", "content"],
+        "lesser": ["want"],
+    },
+    "packwants.shops": {
+        "look": ["shop"],
+        "lines": ["shop"],
+        "line_content": ["shop", "line"],
+        "line_price": ["shop", "line"],
+        "bought": ["shop", "purchase"],
+    },
+}
+
+
+class InterfaceTest(unittest.TestCase):
+    def test_functions_stand_in_their_files_with_their_arguments(self):
+        for file, functions in FUNCTIONS.items():
+            module = importlib.import_module(file)
+            for name, arguments in functions.items():
+                with self.subTest(file, name=name):
+                    function = getattr(module, name)
+                    self.assertTrue(inspect.isfunction(function))
+                    self.assertEqual(function.__module__, file)
+                    self.assertEqual(list(inspect.signature(function).parameters), arguments)
+
+
+if __name__ == "__main__":
+    unittest.main()

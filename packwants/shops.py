@@ -98,6 +98,11 @@ def price_of(shop, line):
     return offer[2] + sum(shop[add][2] for add in adds)
 
 
+def priced_lines(shop):
+    """All lines of a shop in order, each as a tuple (line, content, price)."""
+    return [(line, content_of(shop, line), price_of(shop, line)) for line in lines(shop)]
+
+
 def line_content(shop, line):
     """The sum of what a line of the shop has."""
     look(shop)

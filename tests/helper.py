@@ -1,7 +1,11 @@
 """What the tests of the project share."""
 
 import copy
+import itertools
+import random
 import unittest
+
+MOST_PRICE = 999999999999
 
 
 def lists_in(value):
@@ -18,6 +22,59 @@ def spoil(value):
     """Change every list in a value."""
     for told in lists_in(value):
         told.insert(0, 77)
+
+
+def plain_lines(shop):
+    """All lines with contents and prices in order, reckoned apart from the program."""
+    told = []
+    for place, offer in enumerate(shop):
+        if offer[0] == "many":
+            for count in range(1, 13):
+                each = {begin: price for begin, price in offer[2] if begin <= count}
+                content = [count * number for number in offer[1]]
+                told.append(((place, count, []), content, count * each[max(each)]))
+        if offer[0] == "pack":
+            own = [at for at, other in enumerate(shop) if other[0] == "add" and other[3] == place]
+            chosen = [list(some) for size in range(len(own) + 1) for some in itertools.combinations(own, size)]
+            for adds in sorted(chosen):
+                parts = [offer] + [shop[at] for at in adds]
+                content = [sum(numbers) for numbers in zip(*[part[1] for part in parts])]
+                told.append(((place, 1, adds), content, sum(part[2] for part in parts)))
+    return told
+
+
+def plain_covers(content, want):
+    return all(have >= number for have, number in zip(content, want))
+
+
+def plain_left(want, content):
+    return [max(number - have, 0) for have, number in zip(content, want)]
+
+
+def some_shop(chance, things, offers, most):
+    """A shop with so many offers, with numbers and prices up to a most one, as chance has it."""
+    shop = []
+    for at in range(offers):
+        content = [chance.choice((0, chance.randint(0, most[0]))) for thing in range(things)]
+        content[chance.randrange(things)] = chance.randint(1, most[0])
+        packs = [place for place, offer in enumerate(shop) if offer[0] == "pack"]
+        kind = chance.choice(("pack", "pack", "many", "add" if packs else "pack"))
+        if kind == "pack":
+            shop.append(("pack", content, chance.randint(0, most[1])))
+        elif kind == "add":
+            shop.append(("add", content, chance.randint(0, most[1]), chance.choice(packs)))
+        else:
+            begins = [1] + sorted(chance.sample(range(2, 13), chance.randint(0, 3)))
+            shop.append(("many", content, [(begin, chance.randint(0, most[1])) for begin in begins]))
+    return shop
+
+
+def some_shops(seed, number, offers=8, most=(4, 12)):
+    """Pairs of a shop and how many things there are; the same ones for the same seed."""
+    chance = random.Random(seed)
+    for at in range(number):
+        things = chance.randint(1, 4)
+        yield some_shop(chance, things, chance.randint(0, offers), most), things
 
 
 class AskCase(unittest.TestCase):

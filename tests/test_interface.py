@@ -17,6 +17,20 @@ FUNCTIONS = {
         "line_price": ["shop", "line"],
         "bought": ["shop", "purchase"],
     },
+    "packwants.least": {
+        "least": ["shop", "want"],
+        "cases": ["shop", "want"],
+        "shows": ["shop", "want", "table"],
+    },
+    "packwants.prices": {
+        "fair": ["shop", "prices"],
+        "single_prices": ["shop", "want"],
+        "hold_together": ["shop", "want", "told"],
+    },
+    "packwants.spare": {
+        "spared": ["shop"],
+        "thinned": ["shop"],
+    },
 }
 
 

@@ -4,9 +4,7 @@ import itertools
 import unittest
 
 from packwants.shops import line_content, line_price, lines
-from tests.helper import AskCase
-
-MOST_PRICE = 999999999999
+from tests.helper import MOST_PRICE, AskCase
 
 
 def pack():

@@ -4,7 +4,10 @@ import itertools
 import unittest
 
 from packwants.errors import NoOffer
+from packwants.least import cases, least, shows
+from packwants.prices import fair, hold_together, single_prices
 from packwants.shops import bought, line_content, line_price, lines, look
+from packwants.spare import spared, thinned
 from tests.helper import AskCase
 
 PACK = ("pack", [1, 0], 100)
@@ -140,6 +143,33 @@ class AllRefuseTest(AskCase):
     def test_bought(self):
         self.check(bought, [])
         self.check(bought, [(0, 1, [])])
+
+    def test_least_and_cases(self):
+        for want in ([1, 1], [0, 0]):
+            self.check(least, want)
+            self.check(cases, want)
+
+    def test_shows(self):
+        self.check(shows, [0, 0], [([0, 0], 0)])
+        # A table that would not show in any case.
+        self.check(shows, [0, 0], [])
+        self.check(shows, [1, 0], [([0, 0], 1), ([0, 1], 0)])
+
+    def test_prices(self):
+        self.check(fair, [(0, 1), (0, 1)])
+        self.check(fair, [(1000, 1), (0, 1)])
+        for want in ([1, 1], [0, 0]):
+            self.check(single_prices, want)
+
+    def test_hold_together(self):
+        self.check(hold_together, [0, 0], ((0, 1), [(0, 1), (0, 1)], []))
+        # Of these one would be False in any case.
+        self.check(hold_together, [0, 0], ((0, 0), [], []))
+        self.check(hold_together, [0, 0], ((0, 1), [(0, 1), (0, 1)], [((0, 1, []), (0, 1))]))
+
+    def test_spared_and_thinned(self):
+        self.check(spared)
+        self.check(thinned)
 
     def test_first_ahead_of_all_else(self):
         # These lines are of no such shop: the shop's fault comes first.

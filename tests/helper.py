@@ -3,9 +3,19 @@
 import copy
 import itertools
 import random
+import re
 import unittest
 
 MOST_PRICE = 999999999999
+
+# The forms of the texts of point 15.
+THINGS_FORM = r"[1-9] [a-z]{1,8}(?:, [1-9] [a-z]{1,8})*"
+PRICE_FORM = r"(?:0|[1-9][0-9]{0,11})"
+PLACE_FORM = r"(?:0|[1-9][0-9]?)"
+TIER_FORM = f"{PLACE_FORM} for {PRICE_FORM}"
+PACK_FORM = re.compile(f"({THINGS_FORM}) for ({PRICE_FORM})")
+MANY_FORM = re.compile(f"many ({THINGS_FORM}): ({TIER_FORM}(?:, {TIER_FORM}){{0,3}})")
+ADD_FORM = re.compile(f"with ({PLACE_FORM}): ({THINGS_FORM}) for ({PRICE_FORM})")
 
 
 def lists_in(value):
@@ -49,6 +59,59 @@ def plain_covers(content, want):
 
 def plain_left(want, content):
     return [max(number - have, 0) for have, number in zip(content, want)]
+
+
+def plain_content(names, text):
+    """The contents that a text tells, or None."""
+    if text == "nothing":
+        return [0] * len(names)
+    if not re.fullmatch(THINGS_FORM, text):
+        return None
+    told = [part.split(" ") for part in text.split(", ")]
+    if any(name not in names for number, name in told):
+        return None
+    places = [names.index(name) for number, name in told]
+    if places != sorted(set(places)):
+        return None
+    numbers = {name: int(number) for number, name in told}
+    content = [numbers.get(name, 0) for name in names]
+    many = 1
+    for number in content:
+        many *= number + 1
+    return content if many <= 400 else None
+
+
+def plain_offer(names, text):
+    """The offer that a row tells, or None."""
+    for kind, form in (("pack", PACK_FORM), ("many", MANY_FORM), ("add", ADD_FORM)):
+        found = form.fullmatch(text)
+        if found:
+            parts = list(found.groups())
+            place = parts.pop(0) if kind == "add" else None
+            content = plain_content(names, parts[0])
+            if content is None:
+                return None
+            if kind == "many":
+                tiers = [tuple(int(number) for number in tier.split(" for ")) for tier in parts[1].split(", ")]
+                return (kind, content, tiers)
+            return (kind, content, int(parts[1])) + (() if place is None else (int(place),))
+    return None
+
+
+def standing_alone(shop):
+    """The places of the packs to which no "add" belongs."""
+    named = [offer[3] for offer in shop if offer[0] == "add"]
+    return [place for place, offer in enumerate(shop) if offer[0] == "pack" and place not in named]
+
+
+def without(shop, place):
+    """The shop without the offer at this place, as point 12 tells."""
+    left = []
+    for at, offer in enumerate(shop):
+        if at != place:
+            moved = offer[0] == "add" and offer[3] > place
+            left.append(offer[:3] + (offer[3] - 1,) if moved else offer)
+    return left
 
 
 def some_shop(chance, things, offers, most):

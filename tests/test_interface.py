@@ -31,6 +31,15 @@ FUNCTIONS = {
         "spared": ["shop"],
         "thinned": ["shop"],
     },
+    "packwants.moves": {
+        "moves": ["shop", "want", "place"],
+    },
+    "packwants.texts": {
+        "show_content": ["names", "content"],
+        "read_content": ["names", "text"],
+        "show_shop": ["names", "shop"],
+        "read_shop": ["names", "rows"],
+    },
 }
 
 
@@ -44,6 +53,13 @@ class InterfaceTest(unittest.TestCase):
                     self.assertTrue(inspect.isfunction(function))
                     self.assertEqual(function.__module__, file)
                     self.assertEqual(list(inspect.signature(function).parameters), arguments)
+
+    def test_the_desk_stands_in_its_file_with_its_method(self):
+        desk = importlib.import_module("packwants.desk").Desk
+        self.assertTrue(inspect.isclass(desk))
+        self.assertEqual(desk.__module__, "packwants.desk")
+        self.assertEqual(list(inspect.signature(desk).parameters), [])
+        self.assertEqual(list(inspect.signature(vars(desk)["say"]).parameters), ["self", "line"])
 
 
 if __name__ == "__main__":

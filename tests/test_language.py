@@ -53,6 +53,36 @@ def defined_names(tree):
     return defined + [node.targets[0].id for node in tree.body if isinstance(node, ast.Assign)]
 
 
+def local_names(tree):
+    """The parameters and the variables of all functions of a file."""
+    for owner in ast.walk(tree):
+        if isinstance(owner, (ast.FunctionDef, ast.Lambda)):
+            for node in ast.walk(owner):
+                if isinstance(node, ast.arg):
+                    yield node.arg
+                elif isinstance(node, ast.Name) and isinstance(node.ctx, ast.Store):
+                    yield node.id
+
+
+def imported(tree):
+    """Pairs of a file of the package and a name that is imported from it."""
+    for node in tree.body:
+        if isinstance(node, ast.ImportFrom) and node.module != "__future__":
+            for alias in node.names:
+                yield node.module.partition(".")[2] + ".py", alias.name
+
+
+def reached(trees, name):
+    """The files that a file imports from, directly or through others."""
+    found = set()
+    waiting = [name]
+    while waiting:
+        for file in {file for file, own in imported(trees[waiting.pop()])} - found:
+            found.add(file)
+            waiting.append(file)
+    return found
+
+
 class LanguageTest(unittest.TestCase):
     def setUp(self):
         self.texts = {path.name: path.read_text("utf-8") for path in sorted(PACKAGE.glob("*.py"))}
@@ -99,6 +129,40 @@ class LanguageTest(unittest.TestCase):
             tree = self.trees[node.module.partition(".")[2] + ".py"]
             for alias in node.names:
                 self.assertIn(alias.name, defined_names(tree), where)
+
+    def test_no_two_files_import_from_each_other(self):
+        for name in self.trees:
+            self.assertNotIn(name, reached(self.trees, name))
+
+    def test_one_binding_for_each_name(self):
+        for name, tree in self.trees.items():
+            bound = defined_names(tree) + [own for file, own in imported(tree)]
+            self.assertEqual(len(bound), len(set(bound)), name)
+            classes = [node.name for node in tree.body if isinstance(node, ast.ClassDef)]
+            barred = set(classes) | {own for file, own in imported(tree)} | set(dir(builtins))
+            self.assertEqual(set(local_names(tree)) & barred, set(), name)
+
+    def test_imports_are_used(self):
+        for name, tree in self.trees.items():
+            used = {node.id for node in ast.walk(tree) if isinstance(node, ast.Name)}
+            self.assertEqual({own for file, own in imported(tree)} - used, set(), name)
+
+    def test_no_name_is_a_method_and_an_attribute(self):
+        stored = {node.attr for where, node in self.nodes(ast.Attribute) if isinstance(node.ctx, ast.Store)}
+        self.assertEqual(stored & self.methods, set())
+        called = {id(node.func) for where, node in self.nodes(ast.Call)}
+        for where, node in self.nodes(ast.Attribute):
+            if isinstance(node.ctx, ast.Load) and id(node) not in called:
+                self.assertIn(node.attr, stored, where)
+
+    def test_what_is_iterated_at_once_is_not_stored(self):
+        for where, node in self.nodes(ast.Assign, ast.Return):
+            if isinstance(node.value, ast.Call) and isinstance(node.value.func, ast.Name):
+                self.assertNotIn(node.value.func.id, ("zip", "enumerate", "reversed", "range", "set", "iter"), where)
+
+    def test_escapes(self):
+        for name, text in self.texts.items():
+            self.assertIsNone(re.search(r"\\[^nt\\'\"]", text), name)
 
     def test_barred_nodes(self):
         self.assertEqual([where for where, node in self.nodes(*BARRED_NODES)], [])

@@ -5,9 +5,11 @@ import unittest
 
 from packwants.errors import NoOffer
 from packwants.least import cases, least, shows
+from packwants.moves import moves
 from packwants.prices import fair, hold_together, single_prices
 from packwants.shops import bought, line_content, line_price, lines, look
 from packwants.spare import spared, thinned
+from packwants.texts import show_shop
 from tests.helper import AskCase
 
 PACK = ("pack", [1, 0], 100)
@@ -171,11 +173,20 @@ class AllRefuseTest(AskCase):
         self.check(spared)
         self.check(thinned)
 
+    def test_moves(self):
+        for want in ([1, 1], [0, 0]):
+            self.check(moves, want, 0)
+
+    def test_show_shop(self):
+        for place, shop in self.FAULTS:
+            self.assertEqual(self.refused(NoOffer, show_shop, ["ham", "egg"], shop).place, place)
+
     def test_first_ahead_of_all_else(self):
         # These lines are of no such shop: the shop's fault comes first.
         self.check(line_content, (7, 1, [9]))
         self.check(line_price, (7, 1, [9]))
         self.check(bought, [(7, 1, [9])])
+        self.check(moves, [1, 1], 7)
 
 
 if __name__ == "__main__":

@@ -5,21 +5,7 @@ import unittest
 
 from packwants.least import least
 from packwants.spare import spared, thinned
-from tests.helper import AskCase, plain_covers, plain_lines, some_shops
-
-
-def stands_alone(shop, place):
-    return shop[place][0] == "pack" and not any(offer[0] == "add" and offer[3] == place for offer in shop)
-
-
-def without(shop, place):
-    """The shop without the offer at this place, as point 12 tells."""
-    left = []
-    for at, offer in enumerate(shop):
-        if at != place:
-            moved = offer[0] == "add" and offer[3] > place
-            left.append(offer[:3] + (offer[3] - 1,) if moved else offer)
-    return left
+from tests.helper import AskCase, plain_covers, plain_lines, some_shops, standing_alone, without
 
 
 def least_without(shop, place):
@@ -29,7 +15,7 @@ def least_without(shop, place):
 
 
 def can_be_spared(shop, place):
-    if not stands_alone(shop, place):
+    if place not in standing_alone(shop):
         return False
     price = least_without(shop, place)
     return price is not None and price <= shop[place][2]

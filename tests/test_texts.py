@@ -83,6 +83,12 @@ class ReadContentTest(AskCase):
             self.none(TWO, f"{figure} ham")
             self.none(TWO, f"1 ham, {figure} egg")
 
+    def test_signs_that_are_no_figures(self):
+        for sign in map(chr, range(256)):
+            if sign not in "123456789":
+                self.none(TWO, f"{sign} ham")
+                self.none(TWO, f"1{sign} ham")
+
     def test_things_out_of_order_and_twice(self):
         for text in ("1 egg, 3 ham", "1 ham, 1 ham", "1 ham, 2 egg, 1 ham", "1 egg, 1 egg", "1 ham, 1 ham, 1 egg"):
             self.none(TWO, text)
